@@ -1,0 +1,1 @@
+"""Slotwright: frames that go by a timetable over lines and gates."""
