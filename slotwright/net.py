@@ -36,7 +36,7 @@ class Net:
         self.check_nodes(ears)
         check_number(wire, 0, MOST_WIRE)
         self.kinds[name] = "line"
-        self.lines[name] = (senders, ears, wire)
+        self.lines[name] = (tuple(sorted(senders)), tuple(sorted(ears)), wire)
 
     def drop(self, name):
         """Take out a line, or a house or gate that stands at no line."""
@@ -57,7 +57,7 @@ class Net:
         return self.kinds[name]
 
     def ends(self, name):
-        """The senders, the ears and the wire of a line."""
+        """The senders and the ears of a line, each in the order of names, and its wire."""
         if name not in self.lines:
             raise NoName(name)
         return self.lines[name]

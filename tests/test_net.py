@@ -64,9 +64,17 @@ class Ordinary(NetTest):
         net = small_net()
         self.assertEqual(net.names(), ["a", "b", "g", "h", "k", "m"])
         self.assertEqual([net.kind(name) for name in net.names()], ["house", "house", "gate", "gate", "line", "line"])
-        self.assertEqual(net.ends("m"), (("a", "g"), ("g", "b"), 3))
+        self.assertEqual(net.ends("m"), (("a", "g"), ("b", "g"), 3))
         self.assertEqual(net.ends("k"), (("h",), ("a", "g"), 1))
         self.assertEqual(len(net), 6)
+
+    def test_ends_are_told_in_the_order_of_names_however_they_came(self):
+        for senders in itertools.permutations(("a", "b", "g")):
+            for ears in itertools.permutations(("b", "g", "h")):
+                net = small_net()
+                net.line("o", senders, ears, wire=7)
+                self.assertEqual(net.ends("o"), (("a", "b", "g"), ("b", "g", "h"), 7))
+                self.assertEqual(net.twin().ends("o"), (("a", "b", "g"), ("b", "g", "h"), 7))
 
     def test_names_are_told_in_order_however_they_came(self):
         for names in itertools.permutations(("b", "a", "ab", "aa")):
@@ -141,7 +149,7 @@ class Refusals(NetTest):
     def test_one_name_may_be_in_both_ends(self):
         net = small_net()
         net.line("o", ("a", "b"), ("b", "a"))
-        self.assertEqual(net.ends("o"), (("a", "b"), ("b", "a"), 1))
+        self.assertEqual(net.ends("o"), (("a", "b"), ("a", "b"), 1))
 
     def test_ends_that_are_no_house_or_gate(self):
         net = small_net()
@@ -276,7 +284,7 @@ class Sharing(NetTest):
         twin.line("o", ("x",), ("x",))
         self.assertEqual(net.names(), ["a", "b", "g", "h", "m", "x"])
         net.drop("m")
-        self.assertEqual(twin.ends("m"), (("a", "g"), ("g", "b"), 3))
+        self.assertEqual(twin.ends("m"), (("a", "g"), ("b", "g"), 3))
         self.assertEqual(twin.kind("m"), "line")
 
     def test_a_twin_of_an_empty_net(self):
@@ -300,6 +308,22 @@ class Equality(NetTest):
         self.assertTrue(one == two)
         self.assertFalse(one != two)
         self.assertEqual(one.names(), two.names())
+
+    def test_ends_put_in_in_another_order(self):
+        rows = [(("a", "g", "b"), ("g", "h")), (("b", "a", "g"), ("g", "h")), (("a", "b", "g"), ("h", "g"))]
+        nets = [small_net() for row in rows]
+        for net, (senders, ears) in zip(nets, rows):
+            net.line("o", senders, ears)
+        for one, two in itertools.product(nets, nets):
+            self.assertTrue(one == two)
+            self.assertFalse(one != two)
+            self.assertTrue(one.twin() == two)
+
+    def test_senders_and_ears_are_not_one_another(self):
+        one, two = small_net(), small_net()
+        one.line("o", ("a", "b"), ("g", "h"))
+        two.line("o", ("g", "h"), ("a", "b"))
+        self.assertFalse(one == two)
 
     def test_one_thing_otherwise(self):
         net = small_net()
