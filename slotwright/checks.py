@@ -24,10 +24,22 @@ def check_name(text):
         raise BadName(f"not a name: {text}")
 
 
+def is_number(thing):
+    """Whether the thing is a whole number; True and False are none."""
+    return isinstance(thing, int) and not isinstance(thing, bool)
+
+
+def check_whole(thing):
+    """Refuse what is no number, whatever its bounds."""
+    if not is_number(thing):
+        raise BadNumber("not a number")
+
+
 def check_number(number, least, most):
-    """Refuse True, False and a number outside the bounds."""
+    """Refuse what is no number, and a number outside the bounds."""
+    check_whole(number)
     # The message leaves the number out: Python does not write numbers of many thousand figures.
-    if isinstance(number, bool) or not least <= number <= most:
+    if not least <= number <= most:
         raise BadNumber("not a number within its bounds")
 
 

@@ -108,3 +108,9 @@ def check_ends(ends):
         raise BadEnds("not one to six names")
     if len(set(ends)) < len(ends):
         raise BadEnds("a name twice")
+
+
+def check_node(net, name):
+    """Refuse a name that is no house or gate of the net."""
+    if net.kind(name) == "line":
+        raise NoName(name)

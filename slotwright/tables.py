@@ -1,6 +1,7 @@
 """Timetables: their rows, what is wrong with one, the turns of a node and the worst coming of a frame."""
 
 from slotwright.errors import NoName
+from slotwright.net import check_node
 from slotwright.spans import COMMON, meet
 from slotwright.wants import each_way, judge_lot, order, pairs, starts_by_way
 
@@ -85,8 +86,7 @@ def sending(named, held, place):
 
 def turns(net, frames, table, node):
     """The turns of a house or gate in the common round."""
-    if net.kind(node) == "line":
-        raise NoName(node)
+    check_node(net, node)
     rows = []
     for frame in frames:
         for at, way in enumerate(frame.ways):

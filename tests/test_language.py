@@ -14,8 +14,9 @@ BUILTINS = set("""len range enumerate zip min max sum abs sorted reversed int st
     property staticmethod classmethod""".split())
 PYTHON_NAMES = set(dir(__import__("builtins")))
 DOUBLE = {"__init__", "__eq__", "__repr__", "__str__", "__len__", "__enter__", "__exit__"}
+# A generator expression is not barred everywhere, but where a class has __eq__ hardly any place is left for one.
 BARRED_NODES = (ast.Global, ast.AsyncFunctionDef, ast.AsyncFor, ast.AsyncWith, ast.Await, ast.NamedExpr, ast.Div,
-                ast.MatMult, ast.Import, ast.TryStar)
+                ast.MatMult, ast.Import, ast.TryStar, ast.GeneratorExp)
 BARRED_WORDS = re.compile(r"\b(type|typing|typing_extensions|enum|Enum|IntEnum|StrEnum|Flag|IntFlag|Generic|Protocol|ABC|"
                           r"ABCMeta|namedtuple|NamedTuple|TypedDict|TYPE_CHECKING|abstractmethod)\b"
                           r"|dataclass|overload|contextmanager")
@@ -26,6 +27,12 @@ INTERFACE = {
     "net.py": tuple("Net." + name for name in (
         "house", "gate", "line", "drop", "names", "kind", "ends", "twin", "__len__", "__eq__")),
     "tables.py": tuple("Table." + name for name in ("__init__", "told", "of", "__len__", "__eq__")),
+    "clocks.py": tuple("Clocks." + name for name in ("__init__", "turn", "fall", "rise", "told", "width")),
+    "bench.py": tuple("Bench." + name for name in (
+        "__init__", "now", "go", "sent", "cut", "mend", "hush", "wake", "twin")),
+    "hall.py": tuple("Hall." + name for name in (
+        "__init__", "house", "gate", "line", "drop", "put", "squeeze", "nudge", "take", "slacken", "replan", "undo", "redo",
+        "twin", "net_now", "frames_now", "table_now", "slack_now", "moved")),
 }
 
 

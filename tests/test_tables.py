@@ -4,6 +4,7 @@ import itertools
 import random
 import unittest
 
+from samples import LONG, SHORT, sample_lot, sample_net
 from slotwright.cases import settle
 from slotwright.errors import NoName
 from slotwright.frames import Frame
@@ -12,34 +13,7 @@ from slotwright.spans import apart, meet
 from slotwright.tables import Table, faults, table_of, turns, worst
 from slotwright.wants import pairs
 
-UPPER = ("a", "k", "g", "m", "b")
-LOWER = ("a", "n", "h", "o", "b")
-OTHER = ("c", "k", "g", "m", "b")
-LONG = ("c", "k", "g", "p", "h", "o", "b")
-SHORT = ("c", "q", "b")
 ROWS = (("x", 0, (13, 19)), ("x", 1, (4, 8)), ("y", 0, (0, 5)))
-
-
-def sample_net():
-    """Houses a, b and c, gates g and h; k and m go over g, n and o over h, p from g to h, q straight."""
-    net = Net()
-    for name in ("a", "b", "c"):
-        net.house(name)
-    for name in ("g", "h"):
-        net.gate(name)
-    net.line("k", ("a", "c"), ("g",), wire=2)
-    net.line("m", ("g",), ("b",), wire=3)
-    net.line("n", ("a",), ("h",), wire=0)
-    net.line("o", ("h",), ("b",), wire=1)
-    net.line("p", ("g",), ("h",))
-    net.line("q", ("c",), ("b",), wire=0)
-    return net
-
-
-def sample_lot():
-    """With a slack of 1 x takes 6 and 7 by its first way, 4 and 5 by its second, and y 5 and 6."""
-    return [Frame("y", (OTHER,), every=30, long=2, release=0, last=25),
-            Frame("x", (UPPER, LOWER), every=20, long=3, release=4, last=30)]
 
 
 def with_row(name, way, starts):
