@@ -29,8 +29,8 @@ class Bench:
         self.coming = []
         self.given = {}
         self.cut_since = {}
-        # The (line, first moment, moment of the mending) of each cut that is mended.
-        self.cut_spans = []
+        # By lines the (first moment, moment of the mending) of each cut that is mended.
+        self.cut_spans = {}
         self.hushed = {}
 
     def now(self):
@@ -67,7 +67,7 @@ class Bench:
         since = self.cut_since[line]
         # Cut and mended at one moment, it was never cut.
         if since < self.moment:
-            self.cut_spans.append((line, since, self.moment))
+            self.cut_spans[line] = self.cut_spans.get(line, []) + [(since, self.moment)]
         del self.cut_since[line]
 
     def hush(self, node):
@@ -95,7 +95,7 @@ class Bench:
         other.coming = list(self.coming)
         other.given = {going: True for going in self.given}
         other.cut_since = dict(self.cut_since)
-        other.cut_spans = list(self.cut_spans)
+        other.cut_spans = {line: list(self.cut_spans[line]) for line in self.cut_spans}
         other.hushed = dict(self.hushed)
         return other
 
@@ -151,8 +151,7 @@ class Bench:
             return "spoilt"
         line = self.tracks[sending[:3]][0]
         out, end = self.outs[sending], self.end(sending)
-        spans = [(since, mended) for cut, since, mended in self.cut_spans if cut == line]
-        lost = any([since < end and out < mended for since, mended in spans])
+        lost = any([since < end and out < mended for since, mended in self.cut_spans.get(line, [])])
         # A cut that is not mended has no end yet, and began no later than now.
         if lost or (line in self.cut_since and self.cut_since[line] < end):
             return "lost"

@@ -6,6 +6,7 @@ from slotwright.errors import BadNumber, BadWay, Full, Late, NetError, NoStep, T
 from slotwright.frames import Frame
 from slotwright.hall import Hall
 from slotwright.net import Net
+from slotwright.tables import Table
 
 UPPER = ("a", "k", "g", "m", "b")
 LOWER = ("a", "n", "h", "o", "b")
@@ -113,8 +114,9 @@ def heavy_hall():
 
 
 def all_of(hall):
-    """All that a hall tells of itself."""
-    return (hall.net_now(), hall.frames_now(), hall.table_now(), hall.slack_now(), hall.moved(), hall.tried)
+    """All that a hall tells of itself, copied: what is told stays as it is here, whoever changes it."""
+    return (hall.net_now().twin(), list(hall.frames_now()), Table(hall.table_now().told()), hall.slack_now(),
+            list(hall.moved()), hall.tried)
 
 
 def looks(hall):

@@ -547,6 +547,17 @@ class Twins(unittest.TestCase):
         self.assertEqual(bench.go(200), third.go(200))
         self.assertEqual(bench.sent(), third.sent())
 
+    def test_cuts_of_the_one_are_none_of_the_other(self):
+        for first in (True, False):
+            bench = lone(20, 60, 5)
+            bench.go(22)
+            one, two = (bench, bench.twin()) if first else (bench.twin(), bench)
+            one.cut("q")
+            one.go(23)
+            one.mend("q")
+            self.assertEqual((one.go(60), two.go(60)), ([], [(25, "z", 0, 0)]))
+            self.assertEqual((fates(one), fates(two)), ({("z", 0, 0, 0): "lost"}, {("z", 0, 0, 0): "whole"}))
+
     def test_what_was_given_is_known_to_the_twin(self):
         frame = Frame("x", (UPPER, LOWER), every=120, long=1, last=100)
         bench = Bench(sample_net(), [frame], Table([("x", 0, (0, 10)), ("x", 1, (0, 20))]))

@@ -120,6 +120,9 @@ class Making(unittest.TestCase):
         for number in (-1, 1001, True, False, 10 ** 30, -10 ** 30):
             refused(self, BadNumber, lambda: Clocks([0] * 4, err=number))
             refused(self, BadNumber, lambda: Clocks([0] * 4, gain=number))
+            # Also where the other one makes the slack wide enough.
+            refused(self, BadNumber, lambda: Clocks([0] * 4, err=number, gain=5))
+            refused(self, BadNumber, lambda: Clocks([0] * 4, err=5, gain=number))
 
     def test_stands_that_are_no_numbers(self):
         for stand in (True, False):
